@@ -6,6 +6,7 @@ import (
 	"strings"
 
 	"virama/api"
+	"virama/fault"
 	"virama/trie"
 )
 
@@ -65,7 +66,7 @@ going:
 	}
 	// A run that goes on in the next one is no run: these numbers are packed as other bytes.
 	if len(l) < size || !slices.Equal(met, Runs(l)) {
-		return nil, fault{part, wrong(api.ErrPack)}
+		return nil, fault.In(part, api.ErrPack)
 	}
 	return l, nil
 }
@@ -73,7 +74,7 @@ going:
 func (r *reader) blocks() ([][]int, error) {
 	n := r.number(wide)
 	if n > api.MaxBlocks {
-		return nil, fault{"blocks", wrong(api.ErrPack)}
+		return nil, fault.In("blocks", api.ErrPack)
 	}
 	all := make([][]int, 0, n)
 	for range n {
@@ -89,11 +90,11 @@ func (r *reader) blocks() ([][]int, error) {
 // opened tells a reader of what stands between the mark and the sum.
 func opened(s string) (reader, error) {
 	if len(s) < leastBytes || !strings.HasPrefix(s, mark) {
-		return reader{}, fault{"mark", wrong(api.ErrPack)}
+		return reader{}, fault.In("mark", api.ErrPack)
 	}
 	ahead := s[:len(s)-sumBytes]
 	if joined(s[len(s)-2], s[len(s)-1]).number() != Sum(ahead) {
-		return reader{}, fault{"sum", wrong(api.ErrSum)}
+		return reader{}, fault.In("sum", api.ErrSum)
 	}
 	return reader{left(ahead[len(mark):])}, nil
 }
@@ -114,7 +115,7 @@ func loaded(s string) (api.Trie, error) {
 		goto none
 	}
 	if r.left != "" || !trie.Right(t) {
-		err = fault{"trie", wrong(api.ErrPack)}
+		err = fault.In("trie", api.ErrPack)
 		goto none
 	}
 	return t, nil

@@ -2,6 +2,7 @@ package pack
 
 import (
 	"virama/api"
+	"virama/fault"
 	"virama/trie"
 )
 
@@ -56,9 +57,9 @@ func packed(t api.Trie) (string, error) {
 	w := writer{known: map[block]laid{}}
 	switch {
 	case !trie.Right(t):
-		return "", fault{"trie", wrong(api.ErrTrie)}
+		return "", fault.In("trie", api.ErrTrie)
 	case len(t.Blocks) > api.MaxBlocks:
-		return "", fault{"blocks", wrong(api.ErrPack)}
+		return "", fault.In("blocks", api.ErrPack)
 	}
 	w.put([]byte(mark)...)
 	w.putNumber(wide, len(t.Blocks))
